@@ -1,0 +1,1 @@
+"""Risenets: what nets of rising parts do, with small papers."""

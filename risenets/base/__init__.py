@@ -1,0 +1,1 @@
+"""What all stages rest on: checks of plain values, and ranges."""

@@ -1,0 +1,1 @@
+"""Nets of rises, their loops and cuts."""

@@ -1,0 +1,1 @@
+"""Rises: the ways of single parts."""

@@ -1,0 +1,115 @@
+"""Every example of the document for the stages that stand, with the answer below it."""
+
+import unittest
+
+from risenets import errors
+from risenets.base import ranges
+from risenets.net import nets, painting, sums
+from risenets.rise import energies, joins, rises
+
+# A row that begins with >>> is run; the row below it is its answer, if it has one.
+EXAMPLES = """
+>>> DIODE, BATTERY, FUSE = ("steep", ((0, 0),)), ("level", 5), ("steep", ((-2, 0), (2, 0)))
+>>> STEPS, STAIRS = ("steep", ((0, 0), (2, 0), (2, 3), (4, 3))), ("flat", ((0, -1), (0, 1), (1, 1), (1, 2), (2, 2), (2, 3)))
+>>> [is_range((3, 3)), is_range((4, 3)), is_range((None, None)), is_in((None, 4), 4), is_in((1, None), True), nearest((2, 5), 9), nearest((None, 5), -8)]
+[True, False, True, True, False, 5, -8]
+>>> [turned_range((None, 4)), added_ranges((1, 2), (None, 3)), less_range((1, 2), (None, 3)), shared_range((1, 5), (4, None)), shared_range((1, 5), (6, 7))]
+[(-4, None), (None, 5), (-2, None), (4, 5), None]
+>>> [all_shared(((None, 4), (2, 9), (3, None))), is_all_shared(((0, 1), (1, 2), (3, 4)), ("apart", 1, 2)), is_all_shared(((0, 1), (1, 2), (3, 4)), ("apart", 2, 1))]
+[('shared', (3, 4)), True, False]
+>>> nearest((0, 1), None)
+raises InvalidNumber(None)
+>>> [is_rise(DIODE), is_rise(("flat", ((0, 0), (1, 0)))), currents_of(STEPS), tensions_of(STEPS), currents_of(DIODE), tensions_of(DIODE)]
+[True, False, (0, 4), (None, None), (0, None), (None, 0)]
+>>> [tensions_at(STEPS, 2), tensions_at(STEPS, 0), tensions_at(STEPS, 1), tensions_at(STEPS, 5), currents_at(STEPS, 0), currents_at(STEPS, 1), currents_at(STEPS, -7), currents_at(DIODE, 1)]
+[(0, 3), (None, 0), (0, 0), None, (0, 2), (2, 2), (0, 0), None]
+>>> [pieces(DIODE), place_of(DIODE, 3, 1), place_of(DIODE, 3, -1), is_crossing(DIODE, 3, 1, (4, 0)), is_crossing(DIODE, 3, 1, (3, 0)), crossing(DIODE, 0, -5)]
+[(('steep', 0, None, 0), ('flat', 0, 0, None)), 'above', 'below', True, False, None]
+>>> [rise_of("flat", ((0, 1), (2, 1), (2, 1), (2, 4), (5, 4)), "flat"), rise_of("flat", ((3, 3),), "flat"), rise_of("steep", ((3, 3), (3, 7)), "steep")]
+[('flat', ((2, 1), (2, 4))), ('level', 3), ('plumb', 3)]
+>>> tensions_at(("level", 10 ** 19), 0)
+raises InvalidRise
+>>> [turned(DIODE), transposed(DIODE), moved(STEPS, -2, 1), beside(BATTERY, STEPS), in_row(BATTERY, STEPS)]
+[('flat', ((0, 0),)), ('flat', ((0, 0),)), ('steep', ((-2, 1), (0, 1), (0, 4), (2, 4))), ('level', 5), ('steep', ((0, 5), (2, 5), (2, 8), (4, 8)))]
+>>> [beside(STEPS, ("plumb", 1)), beside(DIODE, DIODE), in_row(DIODE, turned(DIODE)), beside(DIODE, ("flat", ((0, 0),)))]
+[('steep', ((1, 0), (3, 0), (3, 3), (5, 3))), ('steep', ((0, 0),)), ('plumb', 0), ('level', 0)]
+>>> [beside(STEPS, ("steep", ((0, 0), (1, 0)))), meeting(("plumb", -3), STEPS), meeting(("plumb", 1), STEPS), meetings(("plumb", -2), STEPS)]
+[('steep', ((0, 0), (3, 0), (3, 3), (5, 3))), ('met', -3, 3), ('apart', 'currents'), ((-2, -2), (0, 3))]
+>>> [is_meeting(DIODE, ("level", 1), ("apart", "tensions")), is_meeting(DIODE, ("level", 0), ("met", 4, 0)), meetings(DIODE, ("level", 0)), parting(DIODE, DIODE), is_parting(DIODE, STEPS, (3, 0))]
+[True, True, ((0, None), (0, 0)), None, True]
+>>> beside(("level", 1), ("level", 2))
+raises Refused(('tensions',))
+>>> [anchor_of(STAIRS), anchor_of(BATTERY), area_under(STAIRS, 2), area_under(STAIRS, 4), area_under(STAIRS, -3), area_beside(STAIRS, 3), area_beside(STAIRS, 4)]
+[(0, -1), (0, 5), 3, 9, 3, 3, None]
+>>> [gap_of(STAIRS, 1, 2), gap_of(STAIRS, 3, 0), gap_of(DIODE, 3, -4), gap_of(DIODE, -1, 0), gap_of(BATTERY, 3, 5), gap_of(FUSE, 1, 4)]
+[0, 6, 12, None, 0, 4]
+>>> [area_under(BATTERY, 3), area_under(FUSE, 2), area_under(FUSE, 3), area_beside(FUSE, 7), area_beside(FUSE, -3), work_between(STAIRS, 4, 1), work_between(DIODE, 2, -1)]
+[15, 0, None, 14, 6, -8, None]
+>>> [lowest_up(STAIRS), lowest_up(DIODE), lowest_up(BATTERY), lowest_up(FUSE)]
+[(0, (0, 0)), (0, (0, None)), None, (0, (-2, 2))]
+>>> area_under(STAIRS, True)
+raises InvalidNumber(True)
+>>> RING = Net(4, ((0, 1, BATTERY), (1, 2, DIODE), (2, 0, DIODE), (0, 1, FUSE)))
+>>> [str(RING), len(RING), surplus(RING, (2, 3, 3, 1)), surplus(RING, (2, 2, 3, 1)), drops(RING, (7, 5, 5, 0)), work(RING, (2, 2, 3, 1), (7, 5, 5, 0))]
+['net of 4 knots, 4 wires', 4, (0, 0, 0, 0), (0, 1, -1, 0), (2, 0, -2, 2), 0]
+>>> [components(RING), cut_wires(RING, (0, 3)), is_cut(RING, (3, 0)), is_loop(RING, ((0, 1), (3, -1))), is_loop(RING, ((0, 1), (1, 1), (2, 1), (0, 1)))]
+[((0, 1, 2), (3,)), ((0, 3), (2,)), False, True, False]
+>>> [loop_currents(RING, ((3, 1), (0, -1))), cut_heights(RING, (1,)), is_loops_of(RING, (2, 3, 3, 1), ((((0, 1), (1, 1), (2, 1)), 2), (((1, 1), (2, 1), (3, 1)), 1)))]
+[(-1, 0, 0, 1), (0, 1, 0, 0), True]
+>>> [cuts_of(RING, (7, 5, 5, 0)), is_heights_or_turn(RING, (1, 1, -2, 1), ("heights", (4, 3, 2, 9))), is_heights_or_turn(RING, (1, 1, -2, 2), ("loop", ((3, 1), (0, -1))))]
+[(((0,), 2), ((0, 1, 2), 5)), True, True]
+>>> loops_of(RING, (2, 2, 3, 1))
+raises Refused(('surplus', 1))
+>>> TURN = Net(4, ((0, 1, DIODE), (1, 2, DIODE), (2, 0, DIODE), (2, 3, DIODE)))
+>>> KINDS = ("one", "one", "free", "one")
+>>> [parted(TURN, KINDS), reached(TURN, KINDS, 1), is_loop_or_cut(TURN, KINDS, 0, ("loop", ((0, 1), (1, 1), (2, 1)))), is_loop_or_cut(TURN, KINDS, 3, ("cut", (0, 1, 2)))]
+[((0, 1), (3,)), (0, 1, 2, 3), True, True]
+>>> [parted(TURN, ("one", "one", "barred", "one")), is_cut_of(TURN, ("one", "one", "barred", "one"), (0, 3)), is_loop_of(TURN, KINDS, ((2, -1),))]
+[((), (0, 1, 3)), False, False]
+>>> [is_witness(TURN, KINDS, ((1, 1, 1, 0), (1, 1, 1, 0))), is_witness(TURN, KINDS, ((1, 1, 1, 0), (0, 0, 0, 0))), is_kinds(TURN, ("one",) * 3)]
+[True, False, False]
+>>> loop_or_cut(TURN, KINDS, 2)
+raises InvalidOperation
+"""
+
+
+def rows_with_answers():
+    """The pairs of each row to run and its answer, None where nothing is told."""
+    found = []
+    for row in EXAMPLES.strip().split("\n"):
+        if row.startswith(">>> "):
+            found.append([row[4:], None])
+        else:
+            found[-1][1] = row
+    return found
+
+
+class ExampleTests(unittest.TestCase):
+    def setUp(self):
+        self.names = {}
+        for module in (errors, ranges, rises, joins, energies, nets, sums, painting):
+            self.names.update({name: value for name, value in vars(module).items() if not name.startswith("_")})
+
+    def test_examples(self):
+        told = 0
+        for row, answer in rows_with_answers():
+            with self.subTest(row=row):
+                if answer is None:
+                    exec(row, self.names)
+                elif answer.startswith("raises "):
+                    self.check_error(row, answer[len("raises "):])
+                else:
+                    self.assertEqual(repr(eval(row, self.names)), answer)
+                told += 1
+        self.assertEqual(told, 33)
+
+    def check_error(self, row, wanted):
+        error = getattr(errors, wanted.partition("(")[0])
+        with self.assertRaises(error) as caught:
+            eval(row, self.names)
+        if "(" in wanted:
+            self.assertEqual(repr(vars(caught.exception)), repr(vars(eval(wanted, vars(errors)))))
+
+
+if __name__ == "__main__":
+    unittest.main()
