@@ -207,7 +207,7 @@ class PartingTests(unittest.TestCase):
     def test_equal_or_parted(self):
         for one, other in itertools.product(RISES, repeat=2):
             told = parting(one, other)
-            self.assertIs(is_parting(one, other, told), True)
+            self.assertIs(is_parting(one, other, told), one != other)
             self.assertEqual(told is None, one == other)
             if told is not None:
                 self.assertNotEqual(is_on(one, *told), is_on(other, *told))
@@ -226,7 +226,8 @@ class PartingTests(unittest.TestCase):
             right = [point for point in near(alone)]
             wrong = [point for point in itertools.product(range(-NEAR, NEAR + 1), repeat=2) if point not in alone]
             assert_judges(self, is_parting, (one, other), right, wrong + [None, [0, 0], (0,), (0, 0, 0)])
-        assert_judges(self, is_parting, (DIODE, DIODE), [None], [(0, 0), (0, 1), (), False, 0])
+        for rise in RISES:
+            assert_judges(self, is_parting, (rise, rise), [], [(0, 0), (0, 1), (5, -5), False, 0])
         self.assertIs(is_parting(DIODE, FUSE, (10 ** 99, 0)), True)
         self.assertIs(is_parting(DIODE, FUSE, (10 ** 99, 1)), False)
         self.assertIs(is_parting(("plumb", 1), ("plumb", 0), (1, 5)), True)

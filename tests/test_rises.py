@@ -127,7 +127,7 @@ class PlaceTests(unittest.TestCase):
                 if told is not None:
                     self.assertIn(told, points)
                     self.assertLess((told[0] - x) * (told[1] - y), 0)
-                self.assertIs(is_crossing(rise, x, y, told), True)
+                self.assertIs(is_crossing(rise, x, y, told), told is not None)
 
     def test_far_places(self):
         self.assertEqual(place_of(("plumb", BIG), BIG, SIXTY), "on")
@@ -136,19 +136,22 @@ class PlaceTests(unittest.TestCase):
         for rise in (DIODE, BATTERY, FUSE, STAIRS, ("plumb", 1), ("flat", ((0, 0),))):
             for x, y in itertools.product((SIXTY, -SIXTY, 0, 10 ** 30), repeat=2):
                 told = crossing(rise, x, y)
-                self.assertIs(is_crossing(rise, x, y, told), True)
+                self.assertIs(is_crossing(rise, x, y, told), told is not None)
                 self.assertEqual(told is None, is_on(rise, x, y))
 
     def test_judge_takes_every_right_point(self):
         for rise in (DIODE, STEPS, STAIRS, ("level", 1), ("plumb", 1), ("flat", ((1, 1),))):
             points = walked(rise, 30)
             for x, y in ((0, 0), (3, 1), (1, 3), (-2, 2), (4, -4)):
-                if (x, y) in points:
-                    assert_judges(self, is_crossing, (rise, x, y), [None], sorted(points) + [(x, y)])
-                    continue
                 right = {(a, b) for a, b in points if (a - x) * (b - y) < 0}
                 wrong = [point for point in itertools.product(range(-8, 9), repeat=2) if point not in right]
                 assert_judges(self, is_crossing, (rise, x, y), sorted(right), wrong)
+
+    def test_nothing_crosses_a_point_on_the_rise(self):
+        for rise in small_rises():
+            points = sorted(walked(rise, 9))
+            for x, y in points:
+                assert_judges(self, is_crossing, (rise, x, y), [], points)
 
     def test_judged_integers_of_any_length(self):
         right = [(10 ** 99, 0), (4, 0), (LONG, 0)]

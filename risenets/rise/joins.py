@@ -99,11 +99,9 @@ def parting(one, other):
 
 
 def is_parting(one, other, value):
-    """Whether the value is what parting can tell."""
+    """Whether the value is a point on just one of both rises."""
     check_rise(one)
     check_rise(other)
-    if value is None:
-        return one == other
     if not is_row(value, 2):
         return False
     return has_point(one, value[0], value[1]) != has_point(other, value[0], value[1])

@@ -76,9 +76,10 @@ def crossing(rise, current, tension):
 
 
 def is_crossing(rise, current, tension, value):
-    """Whether the value is what crossing can tell."""
-    if place_of(rise, current, tension) == "on":
-        return value is None
+    """Whether the value is a point on the rise that crosses this one."""
+    check_rise(rise)
+    check_number(current)
+    check_number(tension)
     if not is_row(value, 2) or place_by(row_of(rise), value[0], value[1]) != "on":
         return False
     right, up = value[0] - current, value[1] - tension
@@ -188,15 +189,31 @@ def span_of(row, along):
 
 def span_across(row, along, number):
     """What a row of pieces has across a number in the direction of the kind `along`."""
-    found = []
-    for kind, place, least, most in row:
-        if kind == along and holds((least, most), number):
-            found.append((place, place))
-        if kind != along and place == number:
-            found.append((least, most))
-    if not found:
+    start = first_not_below(row, along, number)
+    # At a corner two pieces have the number, or three.
+    inside = [piece for piece in row[start:start + 3] if holds(extent_of(piece, along), number)]
+    if not inside:
         return None
-    return (found[0][0], found[-1][1])
+    across = other_kind(along)
+    return (extent_of(inside[0], across)[0], extent_of(inside[-1], across)[1])
+
+
+def first_not_below(row, along, number):
+    """The index of the first piece that does not end below the number, the length of the row if all do."""
+    start, end = 0, len(row)
+    while start < end:
+        middle = (start + end) // 2
+        if holds((None, extent_of(row[middle], along)[1]), number):
+            end = middle
+        else:
+            start = middle + 1
+    return start
+
+
+def extent_of(piece, along):
+    """All that a piece has in the direction of the kind `along`."""
+    kind, place, least, most = piece
+    return (least, most) if kind == along else (place, place)
 
 
 def place_by(row, current, tension):
