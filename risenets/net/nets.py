@@ -1,8 +1,9 @@
 """Nets of knots and wires, with their cuts and loops."""
 
+from risenets.base.arcs import no_arcs, ways_along
 from risenets.base.checks import ascends, is_index, is_row, is_short_row, is_tuple_of, is_whole
 from risenets.errors import InvalidCurrents, InvalidHeights, InvalidNet, InvalidNumber, InvalidOperation
-from risenets.rise.rises import corners_in, is_rise, size_of
+from risenets.rise.rises import corners_in, is_rise, row_of, size_of
 
 MOST_KNOTS = 12
 MOST_WIRES = 24
@@ -176,6 +177,16 @@ def is_wire(knots, value):
     return is_rise(rise) and len(corners_in(rise)) <= MOST_TURNS and size_of(rise) <= NEAR
 
 
+def is_way(net, start, goal, value):
+    """Whether the value is a way from the one knot to the other one, no knot twice."""
+    if not isinstance(value, tuple) or not all([is_step(net, step) for step in value]):
+        return False
+    knots = [start] + [step_goal(net, step) for step in value]
+    if len(set(knots)) != len(knots) or knots[-1] != goal:
+        return False
+    return [step_start(net, step) for step in value] == knots[:-1]
+
+
 def is_step(net, value):
     """Whether the value is a wire with a way in which it is gone."""
     return is_row(value, 2) and is_index(value[0], len(net)) and value[1] in (1, -1)
@@ -230,15 +241,17 @@ def all_steps(net):
 
 def shortest_ways(net, start, steps):
     """A shortest way, made of these steps, to each knot that is reached from the start."""
-    ways = {start: ()}
-    queue = [start]
-    at = 0
-    while at < len(queue):
-        knot = queue[at]
-        at += 1
-        for step in steps:
-            goal = step_goal(net, step)
-            if step_start(net, step) == knot and goal not in ways:
-                ways[goal] = (*ways[knot], step)
-                queue.append(goal)
-    return ways
+    arcs = no_arcs(net.knots)
+    for step in steps:
+        arcs[step_start(net, step)].append((step_goal(net, step), step))
+    return ways_along(arcs, [start])
+
+
+def ends_of(net):
+    """The pairs (tail, head) of all wires."""
+    return [(tail, head) for tail, head, _ in net.wires]
+
+
+def rows_of(net):
+    """The rows of the pieces of all rises."""
+    return [row_of(rise) for _, _, rise in net.wires]

@@ -25,12 +25,7 @@ def moved(rise, right, up):
     check_rise(rise)
     check_number(right)
     check_number(up)
-    word, told = rise
-    if word == "level":
-        return within_limits((word, told + up))
-    if word == "plumb":
-        return within_limits((word, told + right))
-    return within_limits((word, tuple([(x + right, y + up) for x, y in told])))
+    return within_limits(moved_form(rise, right, up))
 
 
 def beside(one, other):
@@ -92,10 +87,7 @@ def parting(one, other):
     """A point on just one of both rises, None if they are equal."""
     check_rise(one)
     check_rise(other)
-    for current, tension in telling_points(one) + telling_points(other):
-        if has_point(one, current, tension) != has_point(other, current, tension):
-            return (current, tension)
-    return None
+    return parting_by(one, other)
 
 
 def is_parting(one, other, value):
@@ -128,6 +120,16 @@ def turned_form(rise):
         return (word, -told)
     last = row_of(rise)[-1][0]
     return (last, tuple([(-x, -y) for x, y in told[::-1]]))
+
+
+def moved_form(rise, right, up):
+    """What tells the moved rise."""
+    word, told = rise
+    if word == "level":
+        return (word, told + up)
+    if word == "plumb":
+        return (word, told + right)
+    return (word, tuple([(x + right, y + up) for x, y in told]))
 
 
 def transposed_form(rise):
@@ -192,6 +194,16 @@ def are_apart(one, other, word):
     if word == "tensions":
         return common(span_of(row, "steep"), span_of(other_row, "steep")) is None
     return common(span_of(row, "flat"), opposites(span_of(other_row, "flat"))) is None
+
+
+def parting_by(one, other):
+    """A point on just one of both rises, of any size, None if they are equal."""
+    row, other_row = row_of(one), row_of(other)
+    for current, tension in telling_points(one) + telling_points(other):
+        places = (place_by(row, current, tension), place_by(other_row, current, tension))
+        if places[0] != places[1] and "on" in places:
+            return (current, tension)
+    return None
 
 
 def telling_points(rise):

@@ -1,0 +1,1 @@
+"""Nets seen from two ends."""

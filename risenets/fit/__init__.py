@@ -1,0 +1,1 @@
+"""Currents and heights that fit ranges, or what bars them."""
