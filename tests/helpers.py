@@ -3,7 +3,8 @@
 import itertools
 
 from risenets.errors import InvalidRise, RiseError
-from risenets.net.nets import Net
+from risenets.net.nets import Net, drops, surplus
+from risenets.rise.rises import currents_of, is_on, is_rise, tensions_of
 
 SIXTY = 10 ** 60 - 1
 LONG = 10 ** 60
@@ -178,3 +179,128 @@ def spread(count, most, salt):
         state = (state * 1103515245 + 12345) % 2 ** 31
         found.append((state >> 8) % (2 * most + 1) - most)
     return tuple(found)
+
+
+# What follows is told by the words of the document alone, without what the package searches by.
+
+NEAR = 10 ** 12
+
+
+def dressed(shape, salt):
+    """A net with these ends and with small rises, others for each salt."""
+    rises = small_rises()
+    chosen = spread(len(shape), len(rises), salt)
+    return Net(shape.knots, tuple((tail, head, rises[k % len(rises)]) for (tail, head, _), k in zip(shape.wires, chosen)))
+
+
+def dressed_nets(shapes, salts):
+    """All of these shapes with rises, so many times each."""
+    return [dressed(shape, 100 * at + salt) for at, shape in enumerate(shapes) for salt in range(salts)]
+
+
+def cut_sum(net, cut, spans):
+    """The least that leaves the cut less the most that enters it, None if one of these has no end."""
+    found = []
+    for (tail, head, _), (least, most) in zip(net.wires, spans):
+        if tail in cut and head not in cut:
+            found.append(least)
+        if tail not in cut and head in cut:
+            found.append(None if most is None else -most)
+    return None if None in found else sum(found)
+
+
+def loop_sum(loop, spans):
+    """The least numbers of what is gone by 1 less the most ones of what is gone by -1, None if one has no end."""
+    found = [spans[wire][0] if way == 1 else spans[wire][1] for wire, way in loop]
+    return None if None in found else sum(way * number for number, (_, way) in zip(found, loop))
+
+
+def fighting_cuts(net, feeds=None):
+    """All cuts that fight the feeds."""
+    feeds = feeds or (0,) * net.knots
+    spans = [currents_of(rise) for _, _, rise in net.wires]
+    sums = {cut: cut_sum(net, cut, spans) for cut in all_cuts(net)}
+    return [cut for cut, least in sums.items() if least is not None and least > sum(feeds[knot] for knot in cut)]
+
+
+def fighting_loops(net):
+    """All loops that fight."""
+    return barring_loops(net, [tensions_of(rise) for _, _, rise in net.wires])
+
+
+def barring_loops(net, ranges):
+    """All loops that bar heights with tensions of the ranges."""
+    sums = {loop: loop_sum(loop, ranges) for loop in all_loops(net)}
+    return [loop for loop, least in sums.items() if least is not None and least > 0]
+
+
+def all_fights(net):
+    """All fights of the net."""
+    return [("cut", cut) for cut in fighting_cuts(net)] + [("loop", loop) for loop in fighting_loops(net)]
+
+
+def rests(net, value, feeds=None):
+    """Whether the value, a pair of rows, is a state, with these feeds."""
+    currents, heights = value
+    feeds = feeds or (0,) * net.knots
+    more = [n + feed for n, feed in zip(surplus(net, currents), feeds)]
+    pairs = zip(net.wires, currents, drops(net, heights))
+    return not any(more) and all(is_on(rise, x, y) for (_, _, rise), x, y in pairs)
+
+
+def all_ways(net, start, goal):
+    """All ways from the one knot to the other one, by trying all rows of steps."""
+    found = []
+
+    def go_on(knot, steps, knots):
+        if knot == goal:
+            found.append(tuple(steps))
+            return
+        for wire, (tail, head, _) in enumerate(net.wires):
+            for way, begin, end in ((1, tail, head), (-1, head, tail)):
+                if begin == knot and end not in knots:
+                    go_on(end, steps + [(wire, way)], knots + [end])
+
+    go_on(start, [], [start])
+    return found
+
+
+def is_inside(span, number):
+    """Whether the number is of the span."""
+    return (span[0] is None or span[0] <= number) and (span[1] is None or number <= span[1])
+
+
+def windows(count, most):
+    """All rows of so many integers of a small window."""
+    return itertools.product(range(-most, most + 1), repeat=count)
+
+
+def tall(first, count, salt, most=NEAR):
+    """A rise with so many corners that reaches from -most to most."""
+    def ascending(many, salt):
+        """So many unlike numbers, the last one being the greatest that is let."""
+        found = sorted(set(spread(4 * many + 4, 10 ** 6 - 1, salt)))[::3][:max(many - 1, 0)]
+        return [number * (most // 10 ** 6) for number in found] + [most]
+
+    corners, kind = [(-most, -most)], first
+    numbers = {"flat": ascending((count - (first == "flat")) // 2, salt), "steep": ascending(count // 2 + 1, salt + 5000)}
+    while len(corners) < count:
+        kind = "steep" if kind == "flat" else "flat"
+        number = numbers[kind].pop(0)
+        corners.append((number, corners[-1][1]) if kind == "flat" else (corners[-1][0], number))
+    return (first, tuple(corners))
+
+
+def great_net(firsts, salt, corners=40):
+    """A net of 12 knots and 24 wires, its rises being as great as they can be."""
+    ends = [(k, (k + 1) % 12) for k in range(12)] + [((k + 5 * salt) % 12, (k + 5 * salt + 2 + k % 3) % 12)
+                                                    for k in range(12)]
+    return Net(12, tuple((tail, head, tall(firsts[k % len(firsts)], corners, salt * 24 + k))
+                         for k, (tail, head) in enumerate(ends)))
+
+
+def digits(value):
+    """The greatest number of digits of an integer in the value."""
+    if isinstance(value, int):
+        return len(str(abs(value)))
+    return max([digits(item) for item in value], default=0) if isinstance(value, tuple) else 0

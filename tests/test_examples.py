@@ -4,8 +4,13 @@ import unittest
 
 from risenets import errors
 from risenets.base import ranges
+from risenets.change import one
+from risenets.ends import boxes, seen
+from risenets.fit import currents, heights
 from risenets.net import nets, painting, sums
 from risenets.rise import energies, joins, rises
+from risenets.state import box, states
+from risenets.state import energies as net_energies
 
 # A row that begins with >>> is run; the row below it is its answer, if it has one.
 EXAMPLES = """
@@ -70,6 +75,75 @@ raises Refused(('surplus', 1))
 [True, False, False]
 >>> loop_or_cut(TURN, KINDS, 2)
 raises InvalidOperation
+>>> LANES = Net(3, ((0, 1, FUSE), (0, 1, DIODE), (1, 2, STEPS), (2, 0, ("level", 0))))
+>>> [current_ranges(LANES), current_ends(LANES, (0, 0, 0), 0), current_ends(LANES, (0, 0, 0), 3), current_ends(LANES, (4, 0, -4), 1)]
+[((-2, 2), (0, None), (0, 4), (None, None)), (-2, 2), (0, 4), (0, 6)]
+>>> [is_within(LANES, (4, 0, -4), (2, 0, 2, -2)), is_fed_or_cut(LANES, (0, 4, -4), ("currents", (-2, 0, 2, -2))), fed_or_cut(LANES, (0, 0, 0))[0]]
+[True, True, 'currents']
+>>> [is_most_current(LANES, (0, 0, 0), 3, ("most", 4, (2, 2, 4, 4), (2,))), is_most_current(LANES, (0, 0, 0), 2, ("most", 4, (1, 3, 4, 4), None))]
+[True, True]
+>>> [most_current(Net(2, ((0, 1, BATTERY), (1, 0, DIODE))), (0, 0), 0)[0], fed_or_cut(Net(2, ((0, 1, FUSE),)), (3, -3)), fed_or_cut(Net(2, ()), (1, -1))]
+['endless', ('cut', (1,)), ('cut', (1,))]
+>>> current_ends(Net(1, ()), (0,), 0)
+raises InvalidNumber(0)
+>>> LIT, JAM = Net(2, ((0, 1, BATTERY), (1, 0, DIODE))), Net(2, ((0, 1, BATTERY), (0, 1, DIODE)))
+>>> [spans_of(LIT), heights_or_loop(JAM, spans_of(JAM))[0], do_fit(LIT, spans_of(LIT), (7, 2)), do_fit(LIT, spans_of(LIT), (7, 3))]
+[((5, 5), (None, 0)), 'loop', True, False]
+>>> [is_barring(JAM, spans_of(JAM), ((0, 1), (1, -1))), is_barring(JAM, spans_of(JAM), ((0, -1), (1, 1)))]
+[True, False]
+>>> LINE, SPANS = Net(3, ((0, 1, STAIRS), (1, 2, STAIRS))), ((1, 3), (0, None))
+>>> [greatest_row(LINE, SPANS, 0), least_row(LINE, SPANS, 0), most_apart(LINE, SPANS, 0, 2), most_apart(LINE, SPANS, 2, 0)]
+[(0, -1, -1), (0, -3, None), ('most', -1, ((0, 1), (1, 1))), ('endless', (0, 1))]
+>>> [is_most_apart(LINE, SPANS, 1, 0, ("most", 3, ((0, -1),))), is_most_apart(LINE, SPANS, 0, 0, ("most", 0, ())), is_most_apart(LINE, SPANS, 2, 0, ("endless", (0,)))]
+[True, True, False]
+>>> spans_of(LINE) == ((-1, 3), (-1, 3))
+True
+>>> LAMP = Net(3, ((0, 1, BATTERY), (1, 2, DIODE), (2, 0, STAIRS)))
+>>> [is_state(LAMP, ((0, 0, 0), (0, -5, -1))), is_state(LAMP, ((0, 0, 0), (0, -5, 2))), broken_wires(LAMP, (1, 1, 1), (0, -5, 1)), surplus_knots(LAMP, (1, 1, 2))]
+[True, False, (1,), {0: 1, 2: -1}]
+>>> state_or_fight(Net(2, ((0, 1, BATTERY), (0, 1, ("level", 4)))))[0]
+'loop'
+>>> is_fight(Net(2, ((0, 1, ("plumb", 3)), (1, 0, FUSE))), ("cut", (0,)))
+True
+>>> PAIR = Net(2, ((0, 1, FUSE), (0, 1, FUSE), (1, 0, ("plumb", 3))))
+>>> [furthest_current(PAIR, 0, 1)[:2], furthest_current(PAIR, 0, -1)[:2], is_furthest_current(PAIR, 0, 1, ("current", 2, ((2, 1, 3), (0, 0)), ()))]
+[('current', 2), ('current', 1), True]
+>>> [mixed(PAIR, ((2, 1, 3), (0, 0)), ((1, 2, 3), (4, 4))), furthest_height(PAIR, 0, 1)[:2], is_only(PAIR), least_heights(PAIR, 0)]
+[((2, 1, 3), (4, 4)), ('height', 0), False, (0, 0)]
+>>> furthest_current(Net(2, ((0, 1, BATTERY), (0, 1, BATTERY))), 0, 1)[0]
+'endless'
+>>> ROW = Net(3, ((0, 1, FUSE), (1, 2, DIODE)))
+>>> [seen(ROW, 0, 2), seen(ROW, 2, 0), seen(Net(2, ()), 0, 1), seen(PAIR, 0, 1)]
+[('rise', ('steep', ((0, 0), (2, 0)))), ('rise', ('steep', ((-2, 0), (0, 0)))), ('rise', ('plumb', 0)), ('rise', ('steep', ((-7, 0), (1, 0))))]
+>>> [is_with(ROW, 0, 2, 1, ((1, 1), (0, 0, 0))), is_seen_paper(ROW, 0, 2, ("rise", ("steep", ((0, 0), (2, 0))), (((0, 0), (0, 0, 0)), ((2, 2), (0, 0, 0))), (2,), (0,)))]
+[True, True]
+>>> seen(Net(3, ((0, 1, ("plumb", 1)), (0, 2, FUSE))), 0, 2)
+('cut', (0, 2))
+>>> ROWBOX, LONE = (ROW, 0, 2), (Net(2, ((0, 1, ("steep", ((0, 0), (2, 0)))),)), 0, 1)
+>>> [alike_or_parted(ROWBOX, LONE), alike_or_parted(ROWBOX, (ROW, 2, 0))[0], is_alike_answer(ROWBOX, (ROW, 2, 0), ("parted", 0, 1, 0)), is_had(ROWBOX, battery(0), ((-1,), (3, 3)))]
+[('alike',), 'parted', True, True]
+>>> RING = Net(2, ((0, 1, ("steep", ((0, 0), (2, 0)))), (1, 0, ("plumb", 1))))
+>>> [put_in(RING, 0, ROWBOX).wires[1:], filled(RING, 0, ROWBOX, ((1, 1), (4, 4))), read_off(RING, 0, ROWBOX, ((1, 1, 1), (4, 4, 4)))]
+[((0, 2, ('steep', ((-2, 0), (2, 0)))), (2, 1, ('steep', ((0, 0),)))), ((1, 1, 1), (4, 4, 4)), ((1, 1), (4, 4))]
+>>> TORCH, JAM = Net(2, ((0, 1, BATTERY), (1, 0, FUSE))), Net(2, ((0, 1, BATTERY), (0, 1, DIODE)))
+>>> [energy_of(TORCH, (-2, -2)), floor_of(TORCH, (5, 0)), gaps_of(TORCH, (0, 0), (5, 0)), least_energy(TORCH)[:2], best_or_loop(TORCH, (-2, -2))[0]]
+[-10, -10, (0, 10), ('least', -10), 'best']
+>>> [best_or_loop(TORCH, (1, 1))[2], is_best_or_loop(TORCH, (1, 1), ("loop", ((1, -1), (0, -1)), 5)), best_or_knots(TORCH, (9, 4))]
+[5, True, ('best', (-2, -2))]
+>>> [is_least_energy(JAM, ("falls", (-3, 3), ((0, 1), (1, -1)))), least_energy(Net(2, ((0, 1, ("plumb", 3)),)))]
+[True, ('cut', (0,))]
+>>> TWIN = Net(2, ((0, 1, STAIRS), (0, 1, ("plumb", -2))))
+>>> [best_or_knots(TWIN, (0, 0)), best_or_knots(TWIN, (3, 0)), energy_of(TWIN, (2, -2)), floor_of(TWIN, (0, 0)), floor_of(TWIN, (3, 0))]
+[('knots', (0,), 2), ('best', (2, -2)), 3, 0, 3]
+>>> best_or_loop(TORCH, (3, 3))
+raises Refused(('wire', 1))
+>>> TWIN = Net(2, ((0, 1, STAIRS), (1, 0, ("steep", ((-1, 0), (1, 0))))))
+>>> [points_of(TWIN, 0), rest_of(TWIN, 0), points_of(moved_net(TWIN, 0, 0, 1), 0), points_of(moved_net(TWIN, 0, 0, 2), 0)]
+[((0, 0), (0, 0)), ('rise', ('steep', ((-1, 0), (1, 0)))), ((-1, 0), (0, 0)), ((-1, -1), (1, 1))]
+>>> [range_up(TWIN, 0), range_right(TWIN, 0), range_right(Net(2, ((0, 1, FUSE), (1, 0, ("plumb", 1)))), 0), has_state_with(TWIN, 0, ("plumb", 2))]
+[(None, None), (None, None), (-1, 3), False]
+>>> [does_keep(TWIN, 0, ("level", 0), ((0, 0), (4, 4))), fixed(TWIN, ((0, 0), (4, 4)), ("level", "as it is")).wires[0]]
+[True, (0, 1, ('level', 0))]
 """
 
 
@@ -87,7 +161,8 @@ def rows_with_answers():
 class ExampleTests(unittest.TestCase):
     def setUp(self):
         self.names = {}
-        for module in (errors, ranges, rises, joins, energies, nets, sums, painting):
+        for module in (errors, ranges, rises, joins, energies, nets, sums, painting, currents, heights, states, box, seen,
+                       boxes, net_energies, one):
             self.names.update({name: value for name, value in vars(module).items() if not name.startswith("_")})
 
     def test_examples(self):
@@ -101,7 +176,7 @@ class ExampleTests(unittest.TestCase):
                 else:
                     self.assertEqual(repr(eval(row, self.names)), answer)
                 told += 1
-        self.assertEqual(told, 33)
+        self.assertEqual(told, 73)
 
     def check_error(self, row, wanted):
         error = getattr(errors, wanted.partition("(")[0])

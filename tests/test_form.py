@@ -26,6 +26,19 @@ INTERFACE = {
     "risenets.net.sums": "loops_of is_loops_of cuts_of heights_or_turn is_heights_or_turn",
     "risenets.net.painting": """is_kinds is_loop_of is_cut_of loop_or_cut is_loop_or_cut reached parted witness
         is_witness""",
+    "risenets.fit.currents": """current_ranges is_within currents_or_cut fed_or_cut is_fed_or_cut most_current
+        is_most_current current_ends""",
+    "risenets.fit.heights": """spans_of heights_or_loop do_fit is_barring greatest_row least_row most_apart
+        is_most_apart""",
+    "risenets.state.states": """state_or_fight is_state is_fight is_answer broken_wires surplus_knots renumbered
+        other_way""",
+    "risenets.state.box": """mixed ranges furthest_current is_furthest_current furthest_height is_furthest_height
+        least_heights most_heights is_only""",
+    "risenets.ends.seen": "seen is_seen is_with seen_paper is_seen_paper",
+    "risenets.ends.boxes": """is_box is_had joined battery alike_or_parted is_alike_answer put_in filled read_off""",
+    "risenets.state.energies": """energy_of floor_of gaps_of least_energy is_least_energy best_or_loop best_or_knots
+        is_best_or_loop is_best_or_knots""",
+    "risenets.change.one": """with_rise rest_of points_of has_state_with moved_net range_right range_up does_keep fixed""",
 }
 
 

@@ -1,10 +1,10 @@
 """Currents within the ranges of the rises, which bear feeds, or a cut that fights these."""
 
 from risenets.base.checks import is_row, is_short_row, is_tuple_of, is_whole
+from risenets.base.ranges import holds
 from risenets.errors import InvalidFeed, Refused
 from risenets.fit.flows import furthest_led, least_through, led, some_within, too_much
 from risenets.net.nets import check_net, check_wire, ends_of, is_cut, is_loop, rows_of
-from risenets.base.ranges import holds
 from risenets.rise.rises import span_of
 
 
