@@ -238,6 +238,10 @@ class MostTests(unittest.TestCase):
                  ("endless", (0, 0), ((0, 1),)), ("endless", (1, 0), ((0, 1), (1, 1))), ("most", 0, (0, 0), None),
                  ("Endless", (0, 0), ((0, 1), (1, 1))), ("endless", ((0, 1), (1, 1)), (0, 0)), ("cut", (0,))]
         assert_judges(self, is_most_current, (LOOPED, (0, 0), 0), right, wrong)
+        fuse = Net(2, ((0, 1, FUSE),))
+        wrong = [("Cut", (1,)), ("loop", (1,)), (None, (1,)), ("cut", (0,)), ("cut", (True,)), ("cut", [1]), ["cut", (1,)], ("cut", (1,), 0),
+                 ("most", 2, (2,), None), ("most", 3, (3,), None), ("cut", None, (1,)), ("endless", (1,)), (1,)]
+        assert_judges(self, is_most_current, (fuse, (3, -3), 0), [("cut", (1,))], wrong)
         self.assertIn(most_current(LOOPED, (0, 0), 0), right)
         self.assertEqual(current_ends(LOOPED, (0, 0), 0), (0, None))
 

@@ -290,6 +290,8 @@ class JudgeTests(unittest.TestCase):
                  ("rise", BATTERY, (((False,), (5, 0)),), ((0, -1),), ((0, 1),)), ("rise", ("plumb", 0), (((0,), (5, 0)),), (1,), (0,)),
                  ("rise", BATTERY, (((0,), (5, 0)),), ((0, -1),), ((0, True),)), ("rise", BATTERY, ((0, 5),), ((0, -1),), ((0, 1),)),
                  ("rise", BATTERY, (((0,), (5, 0)),), ((0, -1), (0, 1), (0, -1)), ((0, 1),)), ("rise", ("level", 4), (((0,), (5, 0)),), (), ())]
+        wrong += [("rise", BATTERY, (state,), ((0, -1),), ((0, 1),)) for state in (None, (), 0, "ab", [(0,), (5, 0)], ((0,),), (None, (5, 0)),
+                                                                                   ((0,), None), ((0, 0), (5, 0)), {}, ((0,), (5, 0), 0))]
         assert_judges(self, is_seen_paper, (straight, 0, 1), right, wrong)
         plumb = Net(2, ((0, 1, ("plumb", 2)),))
         right = [("rise", ("plumb", 2), (((2,), (n, 0)),), (1,), (0,)) for n in (0, -7, 10 ** 99)]

@@ -139,6 +139,7 @@ class JudgeTests(unittest.TestCase):
             assert_judges(self, function, (net,), [("cut", (0,))], wrong)
         net = Net(2, ((0, 1, BATTERY), (0, 1, ("level", 4))))
         right = [("loop", ((0, 1), (1, -1))), ("loop", ((1, -1), (0, 1)))]
+        wrong += [(word, right[0][1]) for word in ("Loop", "", None, "state", ("loop",), True)]
         wrong += [("loop", ((0, -1), (1, 1))), ("loop", ((0, True), (1, -1))), ("loop", [(0, 1), (1, -1)]), ("loop", ()),
                   ("loop", ((0, 1), (1, -1)), 0), ("cut", ((0, 1), (1, -1))), ("cut", (0,)), ("loop", ((0, 1),))]
         for function in (is_fight, is_answer):

@@ -199,9 +199,9 @@ def are_apart(one, other, word):
 def parting_by(one, other):
     """A point on just one of both rises, of any size, None if they are equal."""
     row, other_row = row_of(one), row_of(other)
+    # Each of these points is on one of both rises: it has one place by both only if it is on both.
     for current, tension in telling_points(one) + telling_points(other):
-        places = (place_by(row, current, tension), place_by(other_row, current, tension))
-        if places[0] != places[1] and "on" in places:
+        if place_by(row, current, tension) != place_by(other_row, current, tension):
             return (current, tension)
     return None
 

@@ -87,8 +87,7 @@ def is_best_or_loop(net, currents, value):
     _, steps, less = value
     if not is_loop(net, steps) or not is_whole(less) or less < 1:
         return False
-    length = length_of(ranges_at(rows_of(net), currents), turned_steps(steps))
-    return length is not None and length == -less
+    return length_of(ranges_at(rows_of(net), currents), turned_steps(steps)) == -less
 
 
 def best_or_knots(net, heights):
@@ -111,8 +110,7 @@ def is_best_or_knots(net, heights, value):
     _, knots, more = value
     if not is_cut(net, knots) or not is_whole(more) or more < 1:
         return False
-    gain = gain_of(net, spans_at(ends_of(net), rows_of(net), heights), knots)
-    return gain is not None and gain == more
+    return gain_of(net, spans_at(ends_of(net), rows_of(net), heights), knots) == more
 
 
 def check_right_currents(net, currents):
