@@ -4,16 +4,18 @@ import unittest
 
 from risenets import errors
 from risenets.base import ranges
-from risenets.change import one
-from risenets.ends import boxes, seen
+from risenets.change import feeds, one
+from risenets.ends import boxes, recipes, seen
 from risenets.fit import currents, heights
 from risenets.net import nets, painting, sums
+from risenets.plane import faces
 from risenets.rise import energies, joins, rises
 from risenets.state import box, states
 from risenets.state import energies as net_energies
+from risenets.time import tanks
 
 # A row that begins with >>> is run; the row below it is its answer, if it has one.
-EXAMPLES = """
+EXAMPLES = r"""
 >>> DIODE, BATTERY, FUSE = ("steep", ((0, 0),)), ("level", 5), ("steep", ((-2, 0), (2, 0)))
 >>> STEPS, STAIRS = ("steep", ((0, 0), (2, 0), (2, 3), (4, 3))), ("flat", ((0, -1), (0, 1), (1, 1), (1, 2), (2, 2), (2, 3)))
 >>> [is_range((3, 3)), is_range((4, 3)), is_range((None, None)), is_in((None, 4), 4), is_in((1, None), True), nearest((2, 5), 9), nearest((None, 5), -8)]
@@ -144,6 +146,47 @@ raises Refused(('wire', 1))
 [(None, None), (None, None), (-1, 3), False]
 >>> [does_keep(TWIN, 0, ("level", 0), ((0, 0), (4, 4))), fixed(TWIN, ((0, 0), (4, 4)), ("level", "as it is")).wires[0]]
 [True, (0, 1, ('level', 0))]
+>>> FALL, LIMIT = Net(3, ((1, 0, STAIRS), (2, 1, STAIRS))), Net(2, ((1, 0, FUSE),))
+>>> [least_fed(FALL, (-1, 0, 1)), greatest_fed(FALL, (-1, 0, 1)), risen(FALL, (-1, 0, 1), 1, 1), risen(FALL, (-1, 0, 1), 2, 1)]
+[(0, 1, 2), (0, 2, 4), ((0, 1, 1), (0, 1, 1)), ((0, 1, 2), (0, 1, 2))]
+>>> [most_fed(LIMIT, (0, 0), 1), most_fed(FALL, (-1, 0, 1), 2), greatest_fed(LIMIT, (-2, 2)), fed_or_fight(LIMIT, (-3, 3))]
+[('most', 2, (0,)), ('endless', ((1, 1), (0, 1))), (0, None), ('cut', (0,))]
+>>> [fed_rise(LIMIT, (0, 0), 1) == FUSE, fed_rise(FALL, (-1, 0, 1), 1), is_fed_state(FALL, (-1, 0, 1), ((1, 1), (0, 1, 3)))]
+[True, ('flat', ((-1, -1), (-1, 1), (0, 1), (0, 2), (1, 2), (1, 3))), True]
+>>> least_fed(LIMIT, (3, -3))
+raises Refused(('cut', (1,)))
+>>> CHAIN = Net(4, ((0, 1, FUSE), (2, 1, DIODE), (2, 1, DIODE), (3, 0, STAIRS)))
+>>> [between(CHAIN, 0, 2), is_recipe(CHAIN, 0, 2, ("row", ("wire", 0, 1), ("side", ("wire", 1, -1), ("wire", 2, -1)))), recipe_or_bridge(CHAIN, 0, 2)[0], joined(CHAIN, 0, 2)]
+[(0, 1, 2), True, 'recipe', (2, 1)]
+>>> FOUR = Net(4, ((0, 1, STAIRS), (0, 2, STAIRS), (1, 2, STAIRS), (1, 3, STAIRS), (2, 3, STAIRS)))
+>>> [is_bridge(FOUR, 0, 3, ("bridge", (0, 1, 2, 3), (((0, 1),), ((1, 1),), ((5, 1),), ((2, 1),), ((3, 1),), ((4, 1),)))), joined(FOUR, 0, 3), recipe_or_bridge(FOUR, 0, 1)[0]]
+[True, (4, 5), 'recipe']
+>>> TWO, ODD = Net(3, ((0, 1, FUSE), (1, 2, DIODE))), Net(3, ((0, 1, ("plumb", 1)), (1, 2, ("plumb", 2))))
+>>> WHOLE = ("row", ("wire", 0, 1), ("wire", 1, 1))
+>>> [recipe_rise(TWO, 0, 2, WHOLE), recipe_rise(ODD, 0, 2, WHOLE), recipe_or_bridge(Net(2, ()), 0, 1)]
+[('rise', ('steep', ((0, 0), (2, 0)))), ('apart', ('row', ('wire', 0, 1), ('wire', 1, 1))), ('none',)]
+>>> recipe_rise(TWO, 0, 2, ("wire", 0, 1))
+raises InvalidOperation
+>>> CIRCLE = ((0, 2), (0, 1), (1, 2))
+>>> [faces_by(LAMP, CIRCLE), is_plane(LAMP, CIRCLE), dual_by(LAMP, CIRCLE)[0].wires[:2], dual_by(LAMP, CIRCLE)[1], dual_state(LAMP, CIRCLE, ((0, 0, 0), (0, -5, -1)))]
+[(((0, -1), (2, -1), (1, -1)), ((0, 1), (1, 1), (2, 1))), True, ((1, 0, ('plumb', 5)), (1, 0, ('flat', ((0, 0),)))), ((0, 2, 1), (0, 1, 2)), ((5, -4, -1), (0, 0))]
+>>> [dual_loop(LAMP, CIRCLE, ((0, 1), (1, 1), (2, 1))), dual_cut(LAMP, CIRCLE, (1,)), [wire[:2] for wire in dual_by(*dual_by(LAMP, CIRCLE))[0].wires]]
+[(1,), ((0, -1), (1, 1)), [(1, 0), (0, 2), (2, 1)]]
+>>> FULL = Net(5, tuple([(one, other, DIODE) for other in range(5) for one in range(other)]))
+>>> [turns_or_bars(FULL)[0], turns_or_bars(Net(5, FULL.wires[1:]))[0], is_bars(FULL, ((0, 1, 2, 3, 4), ()))]
+['bars', 'turns', False]
+>>> dual_by(ROW, ((0,), (0, 1), (1,)))
+raises Refused(('bridge', 0))
+>>> SLOPE = ("steep", ((0, 0), (1, 0), (1, 1), (2, 1), (2, 2)))
+>>> POOLS = Tanks(Net(3, ((1, 2, FUSE),)), ((1, SLOPE, 3), (2, SLOPE, 0)))
+>>> [str(POOLS), POOLS.sums(), POOLS.rest_or_loop()[0], POOLS.is_rest_or_loop(("loop", ((1, 1), (2, -1), (0, -1))))]
+['2 tanks, 3 stored', {1: 3}, 'loop', True]
+>>> [POOLS.is_tick(((1, -1, 1), (0, 1, 1))), POOLS.is_tick(((2, -2, 2), (0, 1, 1))), POOLS.is_tick(((0, 0, 0), (0, 2, 0))), POOLS.taken((1, -1, 1)), POOLS.taken((3, 0, 0))]
+[True, True, False, 0, None]
+>>> [POOLS.filled((2, 1)).rest_or_loop()[0], POOLS.filled((2, 1)).stored(), POOLS.run(9)[-1] in ((2, 1), (1, 2)), POOLS.is_run(9, ((3, 0), (1, 2)))]
+['rest', 1, True, True]
+>>> Tanks(Net(2, ((0, 1, BATTERY),)), ((1, SLOPE, 1),))
+raises InvalidOperation
 """
 
 
@@ -162,7 +205,7 @@ class ExampleTests(unittest.TestCase):
     def setUp(self):
         self.names = {}
         for module in (errors, ranges, rises, joins, energies, nets, sums, painting, currents, heights, states, box, seen,
-                       boxes, net_energies, one):
+                       boxes, net_energies, one, feeds, recipes, faces, tanks):
             self.names.update({name: value for name, value in vars(module).items() if not name.startswith("_")})
 
     def test_examples(self):
@@ -176,7 +219,7 @@ class ExampleTests(unittest.TestCase):
                 else:
                     self.assertEqual(repr(eval(row, self.names)), answer)
                 told += 1
-        self.assertEqual(told, 73)
+        self.assertEqual(told, 98)
 
     def check_error(self, row, wanted):
         error = getattr(errors, wanted.partition("(")[0])

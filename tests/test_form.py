@@ -39,7 +39,14 @@ INTERFACE = {
     "risenets.state.energies": """energy_of floor_of gaps_of least_energy is_least_energy best_or_loop best_or_knots
         is_best_or_loop is_best_or_knots""",
     "risenets.change.one": """with_rise rest_of points_of has_state_with moved_net range_right range_up does_keep fixed""",
+    "risenets.change.feeds": """fed_or_fight is_fed_state is_fed_fight least_fed greatest_fed risen most_fed is_most_fed
+        fed_rise""",
+    "risenets.ends.recipes": """between recipe_or_bridge is_recipe is_bridge joined recipe_rise is_apart""",
+    "risenets.plane.faces": """is_turns faces_by is_plane turns_or_bars is_bars dual_by dual_state dual_loop dual_cut""",
+    "risenets.time.tanks": "Tanks MOST_TANKS MOST_LEVEL MOST_TICKS",
 }
+# The files whose classes have properties.
+WITH_PROPERTIES = ("risenets.net.nets", "risenets.time.tanks")
 
 
 def module_of(path):
@@ -129,7 +136,7 @@ class NameTests(unittest.TestCase):
                 if isinstance(node, ast.Constant):
                     self.assertNotIsInstance(node.value, (float, complex, bytes), name)
                 if isinstance(node, (ast.FunctionDef, ast.ClassDef)):
-                    wanted = [["property"]] if name == "risenets.net.nets" else []
+                    wanted = [["property"]] if name in WITH_PROPERTIES else []
                     marks = [mark.id for mark in node.decorator_list]
                     self.assertIn(marks, [[]] + wanted, (name, node.name))
 

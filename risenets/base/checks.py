@@ -44,3 +44,10 @@ def is_tuple_of(value, count):
 def ascends(row):
     """Whether each item of the row is greater than the one ahead."""
     return all([row[k] < row[k + 1] for k in range(len(row) - 1)])
+
+
+def is_same(value, wanted):
+    """Whether both are equal, True not being 1, where the wanted one is made of tuples, strings and integers."""
+    if isinstance(wanted, tuple):
+        return is_tuple_of(value, len(wanted)) and all([is_same(value[k], wanted[k]) for k in range(len(wanted))])
+    return not isinstance(value, bool) and value == wanted

@@ -5,6 +5,7 @@ from risenets.base.ranges import common, opposites, sums
 from risenets.ends.follow import ranges_seen
 from risenets.ends.seen import rise_or_fight
 from risenets.errors import InvalidOperation
+from risenets.fit.currents import no_feeds
 from risenets.net.nets import Net, check_net, check_wire, drops_by, ends_of, rows_of
 from risenets.rise.joins import has_point, moved_form
 from risenets.rise.rises import check_rise, row_of, span_of
@@ -43,7 +44,7 @@ def has_state_with(net, wire, rise):
     check_wire(net, wire)
     check_rise(rise)
     rows = exchanged(rows_of(net), wire, row_of(rise))
-    return settled(net.knots, ends_of(net), rows)[0] == "state"
+    return settled(net.knots, ends_of(net), rows, no_feeds(net))[0] == "state"
 
 
 def moved_net(net, wire, right, up):

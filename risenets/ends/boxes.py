@@ -52,14 +52,7 @@ def alike_or_parted(one, other):
     """Whether both boxes are alike, or a point that parts them."""
     check_box(one)
     check_box(other)
-    first, second = seen_from(one), seen_from(other)
-    if first == second:
-        return ("alike",)
-    if first is None or second is None:
-        current, tension = anchor_by(second if first is None else first)
-        return ("parted", 1 if first is None else 0, current, tension)
-    current, tension = parting_by(first, second)
-    return ("parted", 0 if has_point(first, current, tension) else 1, current, tension)
+    return alike_by(seen_from(one), seen_from(other))
 
 
 def is_alike_answer(one, other, value):
@@ -73,6 +66,17 @@ def is_alike_answer(one, other, value):
     _, which, current, tension = value
     return (which in (0, 1) and is_seen_at(one, current, tension) == (which == 0)
             and is_seen_at(other, current, tension) == (which == 1))
+
+
+def alike_by(first, second):
+    """Whether boxes that are seen as these rises, None for a fight, are alike, or a point that parts them."""
+    if first == second:
+        return ("alike",)
+    if first is None or second is None:
+        current, tension = anchor_by(second if first is None else first)
+        return ("parted", 1 if first is None else 0, current, tension)
+    current, tension = parting_by(first, second)
+    return ("parted", 0 if has_point(first, current, tension) else 1, current, tension)
 
 
 def put_in(net, wire, box):

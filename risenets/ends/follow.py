@@ -12,17 +12,17 @@ from risenets.rise.rises import rise_by, row_of
 from risenets.state.search import ranges_at, settled, spans_at
 
 
-def some_put_in(net, start, goal):
+def some_put_in(net, start, goal, feeds):
     """("state", currents, heights) with any put-in, which is the last current, or a fight of the ends."""
     word, told = fitted(net.knots, ends_of(net), tension_spans(net))
     if word == "loop":
         return ("loop", told)
-    return settled_with(net, start, goal, ("level", told[goal] - told[start]))
+    return settled_with(net, start, goal, ("level", told[goal] - told[start]), feeds)
 
 
-def settled_with(net, start, goal, rise):
+def settled_with(net, start, goal, rise, feeds):
     """A state or a fight of the net with an outer wire that has this rise."""
-    return settled(net.knots, ends_with(net, start, goal), rows_of(net) + [row_of(rise)])
+    return settled(net.knots, ends_with(net, start, goal), rows_of(net) + [row_of(rise)], feeds)
 
 
 def ends_with(net, start, goal):
@@ -32,7 +32,12 @@ def ends_with(net, start, goal):
 
 def followed(net, start, goal):
     """("rise", rise, states, low, high) as the paper of what is seen, of any size, or a fight of the ends."""
-    told = some_put_in(net, start, goal)
+    return followed_fed(net, start, goal, no_feeds(net))
+
+
+def followed_fed(net, start, goal, feeds):
+    """What is followed of a net that bears feeds, whatever is put in beside them."""
+    told = some_put_in(net, start, goal, feeds)
     if told[0] != "state":
         return told
     below, first, low = followed_one_way(net, start, goal, told[1:], -1)
@@ -72,7 +77,7 @@ def point_of(state, start, goal):
 
 def state_at(net, start, goal, current, tension):
     """A state with this put-in and this push, None if there is none."""
-    told = settled_with(net, start, goal, ("level", -tension))
+    told = settled_with(net, start, goal, ("level", -tension), no_feeds(net))
     if told[0] != "state":
         return None
     heights = told[2]
@@ -84,7 +89,7 @@ def state_at(net, start, goal, current, tension):
 
 def ranges_seen(net, start, goal):
     """The range of all put-ins and that of all pushes, None if a fight is seen."""
-    told = some_put_in(net, start, goal)
+    told = some_put_in(net, start, goal, no_feeds(net))
     if told[0] != "state":
         return None
     ends, spans = ends_with(net, start, goal), current_spans(net) + [(None, None)]

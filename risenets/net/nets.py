@@ -15,12 +15,8 @@ class Net:
     """Knots 0, 1, .., and wires (tail, head, rise) between them."""
 
     def __init__(self, knots, wires):
-        if not is_whole(knots) or not 1 <= knots <= MOST_KNOTS:
-            raise InvalidNet("not a number of 1 to 12 knots")
-        if not isinstance(wires, tuple) or len(wires) > MOST_WIRES:
-            raise InvalidNet("not a tuple of at most 24 wires")
-        if not all([is_wire(knots, wire) for wire in wires]):
-            raise InvalidNet("not a wire of the net")
+        if not are_net_parts(knots, wires):
+            raise InvalidNet("not 1 to 12 knots, and a tuple of at most 24 wires between them")
         self._knots = knots
         self._wires = wires
 
@@ -165,6 +161,15 @@ def check_loop(net, value):
     """Refuse what is no loop of the net."""
     if not is_loop(net, value):
         raise InvalidOperation("not a loop")
+
+
+def are_net_parts(knots, wires):
+    """Whether there is a net of these knots and wires."""
+    if not is_whole(knots) or not 1 <= knots <= MOST_KNOTS:
+        return False
+    if not isinstance(wires, tuple) or len(wires) > MOST_WIRES:
+        return False
+    return all([is_wire(knots, wire) for wire in wires])
 
 
 def is_wire(knots, value):

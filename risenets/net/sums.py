@@ -59,12 +59,11 @@ def heights_or_turn(net, numbers):
     """Heights whose tensions are the numbers, or a loop round which they do not make 0."""
     check_net(net)
     check_numbers(net, numbers)
-    ways = ways_from_roots(net)
-    heights = tuple([-sum_along(numbers, ways[knot]) for knot in range(net.knots)])
+    heights = heights_along(net, numbers)
     tensions = drops_by(net, heights)
     for wire in range(len(net)):
         if tensions[wire] != numbers[wire]:
-            return ("loop", loop_closed(net, ways, wire))
+            return ("loop", loop_closed(net, ways_from_roots(net), wire))
     return ("heights", heights)
 
 
@@ -107,6 +106,12 @@ def loop_with(net, currents):
         knots.append(step_goal(net, onward[0]))
     # What leads to the knot at which the way meets itself is not of the loop.
     return tuple(gone[knots.index(knots[-1]):])
+
+
+def heights_along(net, numbers):
+    """Heights with these tensions, integers of any length, along ways from the least knots of all components."""
+    ways = ways_from_roots(net)
+    return tuple([-sum_along(numbers, ways[knot]) for knot in range(net.knots)])
 
 
 def sum_along(numbers, steps):

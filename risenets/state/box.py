@@ -46,14 +46,7 @@ def is_furthest_current(net, wire, way, value):
     if is_tuple_of(value, 3):
         word, state, steps = value
         return word == "endless" and is_rest(net, state) and goes_round(net, state, (wire, way), steps)
-    if not is_tuple_of(value, 4) or value[0] != "current":
-        return False
-    _, number, state, knots = value
-    if not is_whole(number) or not is_rest(net, state) or state[0][wire] != number:
-        return False
-    if knots == ():
-        return state_spans(net, state)[wire][side_of(way)] == number
-    return is_cut(net, knots) and does_hold(net, state, wire, way, knots)
+    return is_current_paper(net, wire, way, value)
 
 
 def furthest_height(net, knot, other):
@@ -74,12 +67,7 @@ def is_furthest_height(net, knot, other, value):
     if is_tuple_of(value, 3):
         word, state, knots = value
         return word == "endless" and is_rest(net, state) and can_part(net, state, knot, other, knots)
-    if not is_tuple_of(value, 4) or value[0] != "height":
-        return False
-    _, number, state, steps = value
-    if not is_whole(number) or not is_rest(net, state) or state[1][knot] - state[1][other] != number:
-        return False
-    return is_way(net, knot, other, steps) and is_steepest(net, state, steps)
+    return is_height_paper(net, knot, other, value)
 
 
 def least_heights(net, ground):
@@ -171,11 +159,39 @@ def row_by_falls(net, ground, greatest):
     """The greatest, or the least, heights of all states with 0 at the ground, None if some knot has none."""
     check_net(net)
     check_knot(net, ground)
-    arcs = falls(net.knots, ends_of(net), state_ranges(net, state_of(net)), [0] * len(net))
+    row = row_of_state(net, state_of(net), ground, greatest)
+    return None if None in row else row
+
+
+def row_of_state(net, state, ground, greatest):
+    """The greatest, or the least, heights with the currents of a state, 0 at the ground; None without end."""
+    arcs = falls(net.knots, ends_of(net), state_ranges(net, state), [0] * len(net))
     lengths, _ = least_lengths(turned_arcs(arcs) if greatest else arcs, [ground])
-    if len(lengths) < net.knots:
-        return None
-    return tuple([lengths[knot] if greatest else -lengths[knot] for knot in range(net.knots)])
+    # By arcs as they are, a length is how far a height can fall.
+    way = 1 if greatest else -1
+    return tuple([way * lengths[knot] if knot in lengths else None for knot in range(net.knots)])
+
+
+def is_current_paper(net, wire, way, value):
+    """Whether the value is a furthest current with a state, and with what shows it."""
+    if not is_tuple_of(value, 4) or value[0] != "current":
+        return False
+    _, number, state, knots = value
+    if not is_whole(number) or not is_rest(net, state) or state[0][wire] != number:
+        return False
+    if knots == ():
+        return state_spans(net, state)[wire][side_of(way)] == number
+    return is_cut(net, knots) and does_hold(net, state, wire, way, knots)
+
+
+def is_height_paper(net, knot, other, value):
+    """Whether the value is a furthest height with a state, and with what shows it."""
+    if not is_tuple_of(value, 4) or value[0] != "height":
+        return False
+    _, number, state, steps = value
+    if not is_whole(number) or not is_rest(net, state) or state[1][knot] - state[1][other] != number:
+        return False
+    return is_way(net, knot, other, steps) and is_steepest(net, state, steps)
 
 
 def goes_round(net, state, first, value):

@@ -78,7 +78,7 @@ def check_state(net, value):
 
 def settled_net(net):
     """A state, or a fight."""
-    return settled(net.knots, ends_of(net), rows_of(net))
+    return settled(net.knots, ends_of(net), rows_of(net), no_feeds(net))
 
 
 def does_rest(net, value, feeds):

@@ -1,0 +1,1 @@
+"""Plane nets and their duals."""

@@ -1,0 +1,1 @@
+"""How levels run in time."""
