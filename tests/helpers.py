@@ -5,6 +5,8 @@ import itertools
 from risenets.errors import InvalidRise, RiseError
 from risenets.net.nets import Net, drops, surplus
 from risenets.rise.rises import currents_of, is_on, is_rise, tensions_of
+from risenets.talk.bench import Bench
+from risenets.time.tanks import Tanks
 
 SIXTY = 10 ** 60 - 1
 LONG = 10 ** 60
@@ -16,7 +18,7 @@ STAIRS = ("flat", ((0, -1), (0, 1), (1, 1), (1, 2), (2, 2), (2, 3)))
 # One of each kind of which wrong arguments are built, none of them an integer or a tuple.
 ODD = [
     True, False, None, "", "0", "level", "flat", "a" * 4000, "two\nrows",
-    [], [0], [0, 1], {}, {0: 1}, {"a": [1]}, [[[[[[[[1]]]]]]]],
+    [], [0], [0, 1], {}, {0: 1}, {"a": [1]}, [[[[[[[[1]]]]]]]], Tanks(Net(2, ()), ((1, DIODE, 0),)), Bench(),
     Net(1, ()), Net(2, ((0, 1, DIODE),)), RiseError("told"), InvalidRise("told"),
 ]
 ODD_TUPLES = [

@@ -7,12 +7,15 @@ from risenets.base import ranges
 from risenets.change import feeds, one
 from risenets.ends import boxes, recipes, seen
 from risenets.fit import currents, heights
+from risenets.judge import claims
 from risenets.net import nets, painting, sums
 from risenets.plane import faces
 from risenets.rise import energies, joins, rises
 from risenets.state import box, states
 from risenets.state import energies as net_energies
+from risenets.talk import bench, texts
 from risenets.time import tanks
+from risenets.told import readings
 
 # A row that begins with >>> is run; the row below it is its answer, if it has one.
 EXAMPLES = r"""
@@ -187,6 +190,36 @@ raises Refused(('bridge', 0))
 ['rest', 1, True, True]
 >>> Tanks(Net(2, ((0, 1, BATTERY),)), ((1, SLOPE, 1),))
 raises InvalidOperation
+>>> SEEN = ((0, 0), (4, 2), (4, 5))
+>>> [is_agreement(SEEN, ("rise", ("flat", ((4, 0), (4, 5))))), is_agreement(SEEN, ("crossed", 0, 1)), agreement(((0, 0), (3, -1), (5, 5)))]
+[True, False, ('crossed', 0, 1)]
+>>> [tensions_told(SEEN, 2), tensions_told(SEEN, 4), currents_told(SEEN, 3), currents_told(SEEN, -1), tensions_told(SEEN, 9)]
+[(0, 2), (0, None), (4, 4), (None, 0), (5, None)]
+>>> [place_told(SEEN, 4, 4), place_told(SEEN, 4, 1), place_told(SEEN, 3, 3), avoiding(SEEN, 4, 4), is_avoiding(SEEN, 4, 1, ("steep", ((0, 2), (4, 2), (4, 5))))]
+['sure', 'possible', 'barred', None, True]
+>>> LOOSE = Net(2, ((0, 1, ("level", 9)), (1, 0, ("steep", ((0, -3), (8, -3))))))
+>>> [can_hide(LOOSE, 0, SEEN, 3, 3), can_hide(LOOSE, 0, SEEN, 4, 3), hidden_currents(LOOSE, 0, SEEN), hidden_currents(LOOSE, 1, SEEN)]
+[False, True, (4, 4), (None, 0)]
+>>> [rise_text(STEPS), read_rise("plumb -3"), net_text(ROW), answer_text(ROW, ("state", (0, 0), (0, 0, 0)))]
+['steep 0,0 2,0 2,3 4,3', ('plumb', -3), 'net 3\n0 1 steep -2,0 2,0\n1 2 steep 0,0', 'currents 0 0\nheights 0 0 0']
+>>> read_rise("steep 0,0 2,1")
+raises ParseError(2)
+>>> bench = Bench()
+>>> bench.put("lamp", LAMP)
+>>> [bench.answer("lamp")[0], bench.last("lamp") == bench.answer("lamp"), str(bench), "lamp" in bench, "none" in bench]
+['state', True, 'bench of 1 nets, 1 steps', True, False]
+>>> bench.turn_to("lamp", 0, ("plumb", 1))
+>>> [bench.last("lamp"), bench.answer("lamp")[0], bench.net_of("lamp").wires[0]]
+[None, 'state', (0, 1, ('plumb', 1))]
+>>> bench.undo()
+>>> [bench.net_of("lamp") == LAMP, bench.last("lamp")[0], len(bench), bench.names]
+[True, 'state', 1, ('lamp',)]
+>>> bench.net_of("fuse")
+raises UnknownName('fuse')
+>>> [takes(("state", LAMP), ((0, 0, 0), (0, -5, -1))), takes(("reaches", PAIR, 0, 1, 2), ((2, 1, 3), (0, 0))), takes(("short", PAIR, 0, 1, 3), ("current", 2, ((2, 1, 3), (0, 0)), ()))]
+[True, True, True]
+>>> [opposite(("short", PAIR, 0, 1, 3)) == ("reaches", PAIR, 0, 1, 3), takes(("plane", LAMP), CIRCLE), answered(("plane", FULL))[0][0], takes(("cross", ((0, 0), (1, -1))), (0, 1)), answered(("lower", PAIR, 0, 1, 0))[0][0]]
+[True, True, 'barred', True, 'higher']
 """
 
 
@@ -205,7 +238,7 @@ class ExampleTests(unittest.TestCase):
     def setUp(self):
         self.names = {}
         for module in (errors, ranges, rises, joins, energies, nets, sums, painting, currents, heights, states, box, seen,
-                       boxes, net_energies, one, feeds, recipes, faces, tanks):
+                       boxes, net_energies, one, feeds, recipes, faces, tanks, readings, texts, bench, claims):
             self.names.update({name: value for name, value in vars(module).items() if not name.startswith("_")})
 
     def test_examples(self):
@@ -219,7 +252,7 @@ class ExampleTests(unittest.TestCase):
                 else:
                     self.assertEqual(repr(eval(row, self.names)), answer)
                 told += 1
-        self.assertEqual(told, 98)
+        self.assertEqual(told, 116)
 
     def check_error(self, row, wanted):
         error = getattr(errors, wanted.partition("(")[0])

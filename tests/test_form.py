@@ -44,9 +44,14 @@ INTERFACE = {
     "risenets.ends.recipes": """between recipe_or_bridge is_recipe is_bridge joined recipe_rise is_apart""",
     "risenets.plane.faces": """is_turns faces_by is_plane turns_or_bars is_bars dual_by dual_state dual_loop dual_cut""",
     "risenets.time.tanks": "Tanks MOST_TANKS MOST_LEVEL MOST_TICKS",
+    "risenets.told.readings": """agreement is_agreement tensions_told currents_told place_told avoiding is_avoiding can_hide
+        hidden_currents MOST_READINGS FARTHEST""",
+    "risenets.talk.texts": "rise_text net_text answer_text read_rise read_net read_answer",
+    "risenets.talk.bench": "Bench MOST_NETS MOST_NAME",
+    "risenets.judge.claims": "is_claim opposite takes answered",
 }
 # The files whose classes have properties.
-WITH_PROPERTIES = ("risenets.net.nets", "risenets.time.tanks")
+WITH_PROPERTIES = ("risenets.net.nets", "risenets.time.tanks", "risenets.talk.bench")
 
 
 def module_of(path):

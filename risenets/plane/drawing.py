@@ -44,7 +44,7 @@ def blocks_of(knots, ends):
     left = dict(ends)
     found = []
     while left:
-        tail, head = left[min(left)]
+        tail, head = left[min(list(left))]
         block = {wire: ends[wire] for wire in wires_between(knots, ends, tail, head)}
         found.append(block)
         left = {wire: left[wire] for wire in left if wire not in block}
@@ -71,7 +71,7 @@ def drawn_faces(knots, block):
 
 def first_faces(knots, block):
     """Both faces of some loop of the block; the one face of a lone wire."""
-    wire = min(block)
+    wire = min(list(block))
     if len(block) == 1:
         return [((wire, 1), (wire, -1))]
     tail, head = block[wire]

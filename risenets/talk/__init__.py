@@ -1,0 +1,1 @@
+"""Texts, and a bench that keeps nets under names."""

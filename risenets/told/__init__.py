@@ -1,0 +1,1 @@
+"""What is told of parts that nobody knows."""
