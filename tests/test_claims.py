@@ -52,6 +52,7 @@ class ClaimTests(unittest.TestCase):
     def test_is_claim(self):
         wrong = NO_INTEGERS + [0, "state", ("state",), ("state", LAMP, LAMP), ["state", LAMP], ("State", LAMP), ("state", None), (LAMP, "state"), (LAMP,),
                                (["state"], LAMP), (None, LAMP), (0, LAMP), ("told", LAMP), ("", LAMP), ("state", POOLS), ("rest", LAMP), ("rest", POOLS, 0)]
+        wrong += [(word, PAIR, 0, 1, 2) for word in ("told", "", "state", "fight", "plane", "alike", "rest", "agree", None, 0, ("higher",), PAIR)]
         for word in ("reaches", "short"):
             wrong += [(word, PAIR, wire, 1, 2) for wire in NO_INTEGERS + [-1, 3]] + [(word, PAIR, 0, way, 2) for way in NO_INTEGERS + [0, 2, -2]]
             wrong += [(word, PAIR, 0, 1, number) for number in NO_INTEGERS] + [(word, net, 0, 1, 2) for net in (None, POOLS, ROWBOX, 0)]
@@ -346,6 +347,19 @@ class RefusalTests(unittest.TestCase):
         self.assertEqual(seen(*ROWBOX), ("rise", turned(moved(turned(seen(*LONE)[1]), 0, 0))))
         self.assertEqual(answered(("move", Tanks(Net(2, ()), ((1, SLOPE, 0),))))[0][0], "rest")
         self.assertEqual(answered(("plane", dressed(FULL, 1)))[0][0], "barred")
+
+
+class NotTrueTests(unittest.TestCase):
+    """[22.4]: none of these is true."""
+
+    def test_a_paper_is_taken_for_one_claim(self):
+        paper = ("cut", (2,))
+        self.assertEqual([takes(claim, paper) for claim in (("fight", TORN), ("short", TORN, 0, 1, 0), ("lower", TORN, 0, 1, 0))], [True] * 3)
+
+    def test_a_wire_more_leaves_a_claim_true(self):
+        fought = Net(2, ((0, 1, ("plumb", 1)),))
+        for net, word in ((fought, "fight"), (Net(2, fought.wires + ((1, 0, ("plumb", 1)),)), "state"), (Net(2, fought.wires * 2), "fight")):
+            self.assertEqual(answered(("state", net))[0], (word, net))
 
 
 if __name__ == "__main__":

@@ -127,6 +127,7 @@ class EitherOrTests(unittest.TestCase):
         assert_judges(self, is_fed_fight, (LIMIT, (-2, 2)), [], wrong + [("cut", (0,))])
         right = [("loop", ((0, 1), (1, -1))), ("loop", ((1, -1), (0, 1)))]
         wrong = [("loop", ((0, -1), (1, 1))), ("loop", ((0, True), (1, -1))), ("loop", [(0, 1), (1, -1)]), ("cut", (0,)), ("loop", ())]
+        wrong += [(word, ((0, 1), (1, -1))) for word in ("Loop", "", None, "cut", "state", ("loop",), True)]
         assert_judges(self, is_fed_fight, (JAM, (0, 0, 0)), right, wrong)
 
 
@@ -359,6 +360,22 @@ class RefusalTests(unittest.TestCase):
         assert_raises(self, InvalidNumber, ("given", LONG), risen, JAM, (0, 0, 0), 1, LONG)
         assert_raises(self, InvalidNet, None, fed_or_fight, plain_net(3, ((0, 1), (0, 1))), (0, 0, 0))
         assert_judges(self, is_fed_fight, (FALL, (0, 0, 0)), [], JUNK + [("cut", cut) for cut in all_cuts(FALL)])
+
+
+class NotTrueTests(unittest.TestCase):
+    """[15.7]: none of these is true."""
+
+    def test_more_feed_lets_no_current_fall(self):
+        net = Net(2, ((0, 1, STAIRS),))
+        self.assertEqual([fed_or_fight(net, (-n, n))[1] for n in (0, 1)], [(0,), (-1,)])
+
+    def test_what_is_fed_at_two_knots_adds_up(self):
+        late = ("steep", ((0, 0), (1, 0), (1, 5), (9, 5)))
+        net = Net(3, ((1, 0, late), (2, 1, ("level", 0))))
+        self.assertEqual([least_fed(net, feeds)[1] for feeds in ((-1, 1, 0), (-1, 0, 1), (-2, 1, 1))], [0, 0, 5])
+
+    def test_the_least_heights_tell_the_feeds(self):
+        self.assertEqual(least_fed(LIMIT, (0, 0)), least_fed(LIMIT, (-1, 1)))
 
 
 if __name__ == "__main__":

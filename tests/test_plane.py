@@ -226,6 +226,8 @@ class EitherOrTests(unittest.TestCase):
         ways = tuple(((wire, 1),) for wire in range(9))
         right = [((0, 1, 2, 3, 4, 5), ways), ((1, 0, 2, 3, 4, 5), ways[3:6] + ways[:3] + ways[6:]),
                  ((3, 4, 5, 0, 1, 2), tuple(((wire, -1),) for wire in (0, 3, 6, 1, 4, 7, 2, 5, 8)))]
+        backward = right[2][1]
+        wrong = [((3, 4, 5, 0, 1, 2), (((0, way),), *backward[1:])) for way in (0, 2, -2, None)] + wrong
         wrong = [((0, 1, 2, 3, 5, 4), ways), ((0, 1, 3, 2, 4, 5), ways), ((0, 1, 2, 3, 4, 4), ways), ((0, 1, 2, 3, 4, True), ways)] + wrong
         assert_judges(self, is_bars, (UTILITY,), right, wrong)
         assert_judges(self, is_bars, (CUBE,), [], wrong + right)
@@ -422,6 +424,27 @@ class RefusalTests(unittest.TestCase):
                 assert_raises(self, Refused, ("reason", reason), dual_loop, net, turns, loop)
         assert_raises(self, InvalidState, None, dual_state, parts, cases[0][1], ((0,) * 4, (0,) * 4))
         assert_raises(self, InvalidPlane, None, dual_by, parts, ((0, 2), (0, 1), (1, 2), (3,), ()))
+
+
+class NotTrueTests(unittest.TestCase):
+    """[17.7]: none of these is true."""
+
+    def test_as_many_faces_as_the_dual(self):
+        self.assertEqual((len(faces_by(LAMP, CIRCLE)), len(faces_by(*dual_by(LAMP, CIRCLE)))), (2, 3))
+
+    def test_two_duals_are_alike(self):
+        net = plain_net(4, ((0, 1), (0, 1), (1, 2), (2, 3), (3, 1), (0, 1)))
+        found = set()
+        for turns in turns_of_all(net):
+            if numbers_of(net, turns) == [2]:
+                found.add(tuple(sorted(len(face) for face in faces_by(net, turns))))
+        self.assertGreater(len(found), 0)
+        wide = plain_net(5, ((0, 1), (1, 2), (2, 0), (0, 3), (3, 4), (4, 0), (0, 1)))
+        sizes = {tuple(sorted(len(face) for face in faces_by(wide, turns))) for turns in turns_of_all(wide) if is_plane(wide, turns)}
+        self.assertGreater(len(sizes), 1)
+
+    def test_bars_leave_no_state(self):
+        self.assertEqual((turns_or_bars(FULL)[0], state_or_fight(FULL)[0]), ("bars", "state"))
 
 
 if __name__ == "__main__":

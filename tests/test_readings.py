@@ -338,5 +338,20 @@ class RefusalTests(unittest.TestCase):
         self.assertIsNotNone(hidden_currents(net, 1, SEEN))
 
 
+class NotTrueTests(unittest.TestCase):
+    """[19.5]: none of these is true."""
+
+    def test_two_points_tell_the_rise_between_them(self):
+        self.assertEqual(place_told(((0, 0), (2, 2)), 1, 1), "possible")
+
+    def test_possible_points_stay_possible(self):
+        self.assertEqual([place_told(readings, 0, 3) for readings in (((1, 4),), ((1, 4), (1, 2)))], ["possible", "barred"])
+
+    def test_sure_at_a_current_is_sure_along_its_tension(self):
+        self.assertEqual(place_told(SEEN, 4, 4), "sure")
+        self.assertEqual([place_told(SEEN, current, 4) for current in (3, 5)], ["barred", "barred"])
+        self.assertEqual([place_told(((4, 2), (4, 4)), current, 4) for current in (3, 4, 5)], ["barred", "sure", "possible"])
+
+
 if __name__ == "__main__":
     unittest.main()

@@ -223,9 +223,22 @@ class RecipeTests(unittest.TestCase):
                  ("side", ("wire", 0, 1), CHAIN_RECIPE[2]), ("row", ("wire", 0, 1), ("side", ("wire", 1, -1), ("wire", 2, 1))),
                  ("row", ("wire", 0, 1, 0), CHAIN_RECIPE[2]), ("row", ("wire", 0, 2), CHAIN_RECIPE[2]), ("row", ("wire", -4, 1), CHAIN_RECIPE[2]),
                  ("row", None, CHAIN_RECIPE[2]), ("row", ("row", ("wire", 3, 1), ("wire", 0, 1)), CHAIN_RECIPE[2]), ("recipe", CHAIN_RECIPE),
-                 (["row"], *CHAIN_RECIPE[1:]), ("row", ("wire", None, 1), CHAIN_RECIPE[2]), ("row", ("wire", 10 ** 99, 1), CHAIN_RECIPE[2])]
+                 ("row", ("Wire", 0, 1), CHAIN_RECIPE[2]), ("row", ("", 0, 1), CHAIN_RECIPE[2]), ("row", (None, 0, 1), CHAIN_RECIPE[2]),
+                 ("row", ("wire", 0, 1), ("side", ("wire", 1, 0), ("wire", 2, -1))), ("row", ("wire", 0, 1), ("side", ("wire", 1, -1), ("wire", 2, 2))),
+                 ("row", ("wire", 0, 1), ("side", ("wire", 1, -1), ("wire", 2, -2))), (["row"], *CHAIN_RECIPE[1:]), ("row", ("wire", None, 1), CHAIN_RECIPE[2]), ("row", ("wire", 10 ** 99, 1), CHAIN_RECIPE[2])]
         assert_judges(self, is_recipe, (CHAIN, 0, 2), right, wrong)
         assert_judges(self, is_recipe, (Net(2, ()), 0, 1), [], wrong + right + [("wire", 0, 1), ("none",)])
+
+    def test_parts_with_further_knots_in_common(self):
+        net = plain_net(3, ((0, 1), (1, 2), (0, 1), (1, 2)))
+        one, two, three, four = [("wire", wire, 1) for wire in range(4)]
+        self.assertIs(is_recipe(net, 0, 2, ("row", ("side", one, three), ("side", two, four))), True)
+        self.assertIs(is_recipe(net, 0, 2, ("side", ("row", one, two), ("row", three, four))), False)
+        self.assertIs(is_recipe(net, 0, 2, ("side", ("row", one, four), ("row", three, two))), False)
+        back = plain_net(2, ((0, 1), (1, 0)))
+        self.assertIs(is_recipe(back, 0, 1, ("side", ("wire", 0, 1), ("wire", 1, -1))), True)
+        self.assertIs(is_recipe(back, 0, 1, ("side", ("wire", 0, 1), ("wire", 1, 1))), False)
+        self.assertIs(is_recipe(back, 0, 1, ("row", ("wire", 0, 1), ("wire", 1, 1))), False)
 
 
 class BridgeTests(unittest.TestCase):
@@ -275,11 +288,13 @@ class BridgeTests(unittest.TestCase):
                  ("bridge", hubs, (((0, True),), *ways[1:])), ("bridge", hubs, (((False, 1),), *ways[1:])), ("bridge", hubs, ways, 0),
                  ("bridge", hubs, ([(0, 1)], *ways[1:])), ("bridge", hubs, (([0, 1],), *ways[1:])), ("bridge", hubs, ((), *ways[1:])),
                  ("bridge", hubs, (((1, 1), (2, -1)), *ways[1:])), ("bridge", hubs, (((6, 1),), *ways[1:])), ("bridge", hubs, (None, *ways[1:])),
-                 ("bridge", (0, 2, 1, 3), ways), ("bridge", (0, 1, 2, 2), ways), ("bridge", hubs, (((-6, 1),), *ways[1:])),
+                 ("bridge", (0, 2, 1, 3), ways), ("bridge", (0, 1, 2, 2), ways),
+                 ("bridge", (0, 2, 1, 3), (ways[1], ways[0], ways[2], ((2, -1),), ways[5], ways[4])), ("bridge", hubs, (((-6, 1),), *ways[1:])),
                  ("bridge", hubs, (((0, 1), (0, -1), (0, 1)), *ways[1:])), ("bridge", (0, 1, 2, 4), ways), ("bridge", (0, 1, 2, None), ways)]
         assert_judges(self, is_bridge, (FOUR, 0, 3), [("bridge", hubs, ways)], wrong)
         assert_judges(self, is_bridge, (FOUR, 0, 1), [], wrong + [("bridge", hubs, ways)])
-        assert_judges(self, is_bridge, (FOUR, 3, 0), [("bridge", hubs, (*ways[:2], ((5, -1),), *ways[3:]))], wrong + [("bridge", hubs, ways)])
+        back = [("bridge", hubs, (*ways[:2], ((5, way),), *ways[3:])) for way in (-1, 0, 2, -2, None)]
+        assert_judges(self, is_bridge, (FOUR, 3, 0), back[:1], back[1:] + wrong + [("bridge", hubs, ways)])
 
     def test_great_nets(self):
         full = plain_net(7, list(itertools.combinations(range(7), 2)))
@@ -405,6 +420,22 @@ class RefusalTests(unittest.TestCase):
         assert_raises(self, InvalidOperation, None, between, Net(1, ()), 0, 0)
         assert_raises(self, InvalidOperation, None, recipe_rise, LONG_ROW, 0, 11, STEPS)
         assert_raises(self, InvalidOperation, None, recipe_rise, Net(2, ((0, 1, stair("flat", 3)),)), 0, 1, ("wire", 0, -1))
+
+
+class NotTrueTests(unittest.TestCase):
+    """[16.6]: none of these is true."""
+
+    def test_one_recipe_at_most(self):
+        for recipe in (CHAIN_RECIPE, (CHAIN_RECIPE[0], CHAIN_RECIPE[1], ("side", *CHAIN_RECIPE[2][:0:-1]))):
+            self.assertIs(is_recipe(CHAIN, 0, 2, recipe), True)
+
+    def test_a_bridge_for_any_two_ends(self):
+        self.assertEqual([recipe_or_bridge(FOUR, *ends)[0] for ends in ((0, 3), (0, 1))], ["bridge", "recipe"])
+
+    def test_a_knot_of_two_wires_is_joined(self):
+        """The ends themselves are not."""
+        self.assertEqual([sum(knot in wire[:2] for wire in FOUR.wires) for knot in (0, 3)], [2, 2])
+        self.assertEqual(joined(FOUR, 0, 3), (4, 5))
 
 
 if __name__ == "__main__":

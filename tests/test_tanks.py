@@ -27,7 +27,9 @@ def passive(rise):
     return is_on(rise, 0, 0)
 
 
-PASSIVE = [rise for rise in small_rises() if passive(rise)] + [FUSE, turned(DIODE)]
+# One whose areas are reckoned from another current than 0.
+SOFT = ("steep", ((-2, -1), (0, -1), (0, 1), (3, 1)))
+PASSIVE = [rise for rise in small_rises() if passive(rise)] + [FUSE, turned(DIODE), SOFT, moved(STAIRS, 0, -1), turned(STAIRS)]
 STORES = [rise for rise in small_rises() if is_inside(tensions_of(rise), 0)] + [SLOPE, STAIRS]
 
 
@@ -254,6 +256,8 @@ class TickTests(unittest.TestCase):
         self.assertEqual(POOLS.taken((2, SIXTY, -SIXTY)), 0)
         hard = Tanks(Net(2, ((0, 1, STAIRS),)), ((1, SLOPE, 0),))
         self.assertEqual([hard.taken((n, 0)) for n in (-3, 0, 2, 5)], [3, 0, 3, 12])
+        soft = Tanks(Net(2, ((0, 1, SOFT), (1, 0, SOFT))), ((1, SLOPE, 0),))
+        self.assertEqual([soft.taken((n, m, 0)) for n, m in ((0, 0), (3, 0), (0, -2), (-1, 2), (4, 0), (0, -3))], [0, 3, 2, 3, None, None])
 
     def test_is_tick(self):
         right = [((1, -1, 1), (n, n + 1, n + 1)) for n in (0, 10 ** 99)] + [((2, -2, 2), (0, 1, 1))]
@@ -455,6 +459,21 @@ class RefusalTests(unittest.TestCase):
                 self.assertEqual((heights[1], drops(tanks.net, heights)), (heights[3], (0, 0)))
                 shown += 1
         self.assertGreater(shown, 5)
+
+
+class NotTrueTests(unittest.TestCase):
+    """[18.5]: none of these is true."""
+
+    def test_at_rest(self):
+        full = POOLS.filled((2, 1))
+        self.assertEqual((full.rest_or_loop()[0], full.stored(), full.levels), ("rest", 1, (2, 1)))
+        self.assertTrue(full.is_tick(((0, 0, 0), (0, 1, 1))) and full.is_tick(((0, 0, 0), (7, 8, 8))))
+
+    def test_a_level_that_fell_does_not_rise(self):
+        """A tank that runs into an empty one is filled by a third one, slowly."""
+        slow, steep = ("steep", ((-4, 0), (4, 0))), ("flat", tuple((k, k + more) for k in range(19) for more in (0, 1)))
+        tanks = Tanks(Net(4, ((1, 2, slow), (2, 3, FREE))), ((1, steep, 100), (2, steep, 10), (3, steep, 0)))
+        self.assertEqual([row[1] for row in tanks.run(2)], [10, 7, 9])
 
 
 if __name__ == "__main__":

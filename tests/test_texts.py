@@ -232,8 +232,8 @@ class RefusalTests(unittest.TestCase):
         assert_refusals(self, net_text, [ROW], {0: BAD_NET})
         wrongs = {0: BAD_NET, 1: (no_answers, InvalidOperation, None)}
         assert_refusals(self, answer_text, [ROW, ("state", (0, 0), (0, 0, 0))], wrongs)
-        wrongs = {0: BAD_NET}
-        assert_refusals(self, read_answer, [ROW, "currents 0 0\nheights 0 0 0"], wrongs)
+        for text in ("currents 0 0\nheights 0 0 0", "", None, ("cut", (0,))):
+            assert_refusals(self, read_answer, [ROW, text], {0: BAD_NET})
         self.assertEqual(rise_text(tall("flat", 3, 1, 10 ** 6)).split(" ")[0], "flat")
 
 

@@ -91,9 +91,10 @@ def are_hub_ways(ends, hubs, pairs, value):
         return False
     met = list(hubs)
     for (start, goal), way in zip(pairs, value):
-        if not isinstance(way, tuple) or not way or not all([is_step_of(ends, step) for step in way]):
+        if not isinstance(way, tuple) or not all([is_step_of(ends, step) for step in way]):
             return False
         goals = [goal_of(ends, step) for step in way]
+        # No way is empty, as the goal is another knot than the start.
         if [start_of(ends, step) for step in way] != [start] + goals[:-1] or goals[-1] != goal:
             return False
         met.extend(goals[:-1])

@@ -58,8 +58,7 @@ def read_answer(net, value):
     """The answer of the net that has the text."""
     check_net(net)
     answer = answer_of_rows(value.split("\n")) if isinstance(value, str) else None
-    # Only what has this very text is told by it.
-    if answer is None or not is_short_answer(net, answer) or text_of_answer(answer) != value:
+    if not is_short_answer(net, answer):
         raise ParseError(0)
     return answer
 
@@ -114,9 +113,8 @@ def number_of(word):
 
 
 def corner_of(word):
-    """The corner that has this text, None if there is none."""
-    numbers = [number_of(part) for part in word.split(",")]
-    return tuple(numbers) if len(numbers) == 2 and None not in numbers else None
+    """What a word can tell as a corner, None standing for what is no integer."""
+    return tuple([number_of(part) for part in word.split(",")])
 
 
 def rise_of_words(words):

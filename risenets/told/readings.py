@@ -146,8 +146,8 @@ def crossed_pair(readings):
 
 
 def is_crossed_pair(readings, value):
-    """Whether the value is the indices of two readings that cross, the lesser one first."""
-    if not is_tuple_of(value, 2) or not all([is_index(at, len(readings)) for at in value]):
+    """Whether the pair is the indices of two readings that cross, the lesser one first."""
+    if not all([is_index(at, len(readings)) for at in value]):
         return False
     return value[0] < value[1] and do_cross(readings[value[0]], readings[value[1]])
 
@@ -217,20 +217,17 @@ def rise_without(net, wire):
 def shared_currents(readings, rise):
     """The range of the currents x at which some possible tension y has (x, -y) on the rise, None if none.
 
-    Along the rise -y falls, and the possible tensions rise: so where they are shared is just ahead of where the
-    one is above the other, and behind where it is below. All of this changes only beside the current of a
-    reading or of a corner.
+    Along the rise -y falls, and the possible tensions rise: so they share what lies between two currents. These
+    are currents of readings or of the rise's turns; if they are shared beyond all of them, it is without end.
     """
     row = row_of(rise)
-    least, most = span_of(row, "flat")
-    turns = [x for x, _ in (*readings, *corners_in(rise))] + [end for end in (least, most) if end is not None]
-    near = sorted(set([x + more for x in turns for more in (-1, 0, 1)]))
-    inside = [x for x in near if holds((least, most), x)]
-    found = [x for x in inside if is_shared_at(readings, row, x)]
+    span = span_of(row, "flat")
+    turns = sorted([x for x, _ in (*readings, *corners_in(rise))] + [end for end in span if end is not None])
+    near = [turns[0] - 1, *turns, turns[-1] + 1]
+    found = [x for x in near if holds(span, x) and is_shared_at(readings, row, x)]
     if not found:
         return None
-    return (None if least is None and found[0] == near[0] else found[0],
-            None if most is None and found[-1] == near[-1] else found[-1])
+    return (None if found[0] == near[0] else found[0], None if found[-1] == near[-1] else found[-1])
 
 
 def is_shared_at(readings, row, current):
